@@ -4,6 +4,7 @@ package assay
 import (
 	"assay/api"
 	"assay/reader"
+	"assay/types"
 	"assay/writer"
 )
 
@@ -17,10 +18,27 @@ func Show(source string) (string, api.Fault) {
 }
 
 // Canon writes a type in one way (P5).
-func Canon(text string) (string, api.Fault) { return "", api.Fault{} }
+func Canon(text string) (string, api.Fault) {
+	t, fault := readType(text, types.Names(types.Fresh()))
+	if fault.Kind != api.OK {
+		return "", fault
+	}
+	return writer.Types()(t), api.Fault{}
+}
 
 // Unify makes two types one (P6).
-func Unify(a string, b string) (string, bool, api.Fault) { return "", false, api.Fault{} }
+func Unify(a string, b string) (string, bool, api.Fault) {
+	variable := types.Names(types.Fresh())
+	left, fault := readType(a, variable)
+	if fault.Kind != api.OK {
+		return "", false, fault
+	}
+	right, fault := readType(b, variable)
+	if fault.Kind != api.OK {
+		return "", false, fault
+	}
+	return unify(left, right)
+}
 
 // Scope tells what is wrong with a program's names (P7).
 func Scope(source string) api.Fault { return api.Fault{} }

@@ -18,7 +18,7 @@ func oddTexts() []string {
 	for b := range 256 {
 		out = append(out, string([]byte{byte(b)}), "let x="+string([]byte{byte(b)}), "let x=1"+string([]byte{byte(b)}))
 	}
-	for _, part := range []string{"(", ")", "()", "f ", "fun x->", "let x=", "if ", "match ", "1+", "1*", "1<", "(1,", "(1:", "'a->", "C ", "C(", "type T=A(", "let x=match a with C(", ";", "'"} {
+	for _, part := range []string{"(", ")", "()", "f ", "fun x->", "let x=", "if ", "match ", "1+", "1*", "1<", "(1,", "(1:", "'a->", "C ", "C(", "type T=A(", "let x=match a with C(", ";", "'", "('a,", "T 'a ", "('a->'b)->"} {
 		for _, n := range []int{1, 2, 50, 400} {
 			row := strings.Repeat(part, n)
 			out = append(out, row, "let x="+row, "type T=A "+row)
@@ -48,6 +48,7 @@ func TestEveryCallEnds(t *testing.T) {
 		assay.Canon(text)
 		assay.Unify(text, "'a")
 		assay.Unify("'a", text)
+		assay.Unify(text, text)
 		assay.Scope(text)
 		for _, engine := range []int{api.EngineW, api.EngineJ, 0, -1, 3, math.MaxInt, math.MinInt} {
 			if i%7 == 0 || engine == api.EngineW {
@@ -60,41 +61,68 @@ func TestEveryCallEnds(t *testing.T) {
 
 func TestNothingButTheFault(t *testing.T) {
 	for _, text := range oddTexts() {
-		if shown, f := assay.Show(text); f.Kind != api.OK && shown != "" || f.Kind == api.OK && f != (api.Fault{}) {
-			t.Errorf("P1: Show(%.60q) = %.60q, %v", text, shown, f)
-		}
+		shown, f := assay.Show(text)
+		checkAlone(t, "Show", text, f, shown == "")
+		canon, f := assay.Canon(text)
+		checkAlone(t, "Canon", text, f, canon == "")
+		one, ok, f := assay.Unify(text, "'a")
+		checkAlone(t, "Unify", text, f, one == "" && !ok)
+		one, ok, f = assay.Unify("'a", text)
+		checkAlone(t, "Unify behind 'a", text, f, one == "" && !ok)
+	}
+}
+
+// checkAlone tells of a fault that does not stand alone in its answer, and of one without a kind that has places.
+func checkAlone(t *testing.T, call, text string, f api.Fault, nothing bool) {
+	t.Helper()
+	if f.Kind != api.OK && !nothing || f.Kind == api.OK && f != (api.Fault{}) {
+		t.Errorf("P1: %s(%.60q): %v, with more, or without a kind", call, text, f)
 	}
 }
 
 // A text that is too long and has other faults as well has the one that is named first.
 func TestFirstNamedFault(t *testing.T) {
-	for _, head := range []string{"#", "x", "let x=1234567890;", "let"} {
-		source := head + strings.Repeat(" ", api.MaxSource)
-		if _, f := assay.Show(source); f != fault(api.ErrLong, 0, 0) {
-			t.Errorf("P1: Show(%.20q..): %v", source, f)
+	for _, head := range []string{"#", "x", "let x=1234567890;", "let", "T" + strings.Repeat(" A", 60)} {
+		text := head + strings.Repeat(" ", api.MaxSource)
+		want := fault(api.ErrLong, 0, 0)
+		if _, f := assay.Show(text); f != want {
+			t.Errorf("P1: Show(%.20q..): %v", text, f)
+		}
+		if _, f := assay.Canon(text); f != want {
+			t.Errorf("P1: Canon(%.20q..): %v", text, f)
+		}
+		if _, _, f := assay.Unify(text, "#"); f != want {
+			t.Errorf("P1: Unify(%.20q.., #): %v", text, f)
 		}
 	}
 }
 
+// answer is what all calls answer to one text.
 type answer struct {
-	shown string
-	fault api.Fault
+	shown, canon, one               string
+	ok                              bool
+	showFault, canonFault, oneFault api.Fault
+}
+
+func ask(text string) answer {
+	var a answer
+	a.shown, a.showFault = assay.Show(text)
+	a.canon, a.canonFault = assay.Canon(text)
+	a.one, a.ok, a.oneFault = assay.Unify(text, "('x, 'a) -> 'b")
+	return a
 }
 
 func TestNothingIsKept(t *testing.T) {
-	sources := []string{"let x = 1;", "let y = (2)", "#", "type T 'a = A ('a);", "", strings.Repeat(" ", 500), "let z = f (g x) 003;"}
-	ask := func(source string) answer {
-		shown, f := assay.Show(source)
-		return answer{shown, f}
-	}
+	texts := []string{"let x = 1;", "let y = (2)", "#", "type T 'a = A ('a);", "", strings.Repeat(" ", 500), "let z = f (g x) 003;",
+		"'a", "('b,'a)->'c", "('a,'b)->'a", "'a->'a", "Int", "T" + strings.Repeat(" A", 48)}
 	var first []answer
-	for _, source := range sources {
-		first = append(first, ask(source))
+	for _, text := range texts {
+		first = append(first, ask(text))
 	}
-	for i := range sources {
-		for j := range sources {
-			if a, b := ask(sources[i]), ask(sources[j]); a != first[i] || b != first[j] {
-				t.Errorf("P2: Show(%.20q), then Show(%.20q): %v, %v, want %v, %v", sources[i], sources[j], a, b, first[i], first[j])
+	for i := range texts {
+		for j := range texts {
+			if a, b := ask(texts[i]), ask(texts[j]); a != first[i] || b != first[j] {
+				t.Errorf("P2: asked of %.20q, then of %.20q: %v, %v, want %v, %v", texts[i], texts[j], a, b, first[i], first[j])
 			}
 		}
 	}
@@ -102,8 +130,8 @@ func TestNothingIsKept(t *testing.T) {
 	side := make([][]answer, 8)
 	for i := range side {
 		wait.Go(func() {
-			for _, source := range sources {
-				side[i] = append(side[i], ask(source))
+			for _, text := range texts {
+				side[i] = append(side[i], ask(text))
 			}
 		})
 	}

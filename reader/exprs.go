@@ -1,7 +1,6 @@
 package reader
 
 import (
-	"slices"
 	"strconv"
 
 	"assay/tree"
@@ -67,38 +66,65 @@ func (r *reader) arm() tree.Arm {
 	return tree.Arm{Span: r.since(from), Pattern: pattern, Body: body}
 }
 
+// operatorRule reads an operator and its right side; from is where its left side's tokens began, parentheses and all.
+type operatorRule func(from int, left tree.Expr) tree.Expr
+
+func (r *reader) comparisonRules() map[kind]operatorRule {
+	return map[kind]operatorRule{
+		"<": r.operator(r.sum),
+	}
+}
+
+func (r *reader) sumRules() map[kind]operatorRule {
+	return map[kind]operatorRule{
+		"+": r.operator(r.product),
+		"-": r.operator(r.product),
+	}
+}
+
+func (r *reader) productRules() map[kind]operatorRule {
+	return map[kind]operatorRule{
+		"*": r.operator(r.call),
+	}
+}
+
+// operator is the rule of an operator whose right side is such an operand.
+func (r *reader) operator(operand func() tree.Expr) operatorRule {
+	return func(from int, left tree.Expr) tree.Expr {
+		op := r.next().text
+		right := operand()
+		return tree.Binary{Span: r.since(from), Op: op, Left: left, Right: right}
+	}
+}
+
 func (r *reader) comparison() tree.Expr {
 	from := r.token.From
 	left := r.sum()
-	if r.token.kind != "<" {
-		return left
-	}
-	return r.binary(from, left, r.sum)
-}
-
-func (r *reader) sum() tree.Expr {
-	return r.fromLeft(r.product, "+", "-")
-}
-
-func (r *reader) product() tree.Expr {
-	return r.fromLeft(r.call, "*")
-}
-
-// fromLeft reads operands with some of the operators between each two.
-func (r *reader) fromLeft(operand func() tree.Expr, operators ...kind) tree.Expr {
-	from := r.token.From
-	left := operand()
-	for slices.Contains(operators, r.token.kind) {
-		left = r.binary(from, left, operand)
+	if rule, ok := r.comparisons[r.token.kind]; ok {
+		return rule(from, left)
 	}
 	return left
 }
 
-// binary reads an operator and its right side; from is where its left side's tokens began, parentheses and all.
-func (r *reader) binary(from int, left tree.Expr, operand func() tree.Expr) tree.Expr {
-	op := r.next().text
-	right := operand()
-	return tree.Binary{Span: r.since(from), Op: op, Left: left, Right: right}
+func (r *reader) sum() tree.Expr {
+	return r.fromLeft(r.product, r.sums)
+}
+
+func (r *reader) product() tree.Expr {
+	return r.fromLeft(r.call, r.products)
+}
+
+// fromLeft reads operands with an operator of the rules between each two.
+func (r *reader) fromLeft(operand func() tree.Expr, rules map[kind]operatorRule) tree.Expr {
+	from := r.token.From
+	left := operand()
+	for {
+		rule, ok := rules[r.token.kind]
+		if !ok {
+			return left
+		}
+		left = rule(from, left)
+	}
 }
 
 func (r *reader) call() tree.Expr {

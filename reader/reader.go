@@ -55,6 +55,11 @@ type reader struct {
 	atoms  map[kind]func() tree.Expr
 	plains map[kind]func() tree.Pattern
 	smalls map[kind]func() tree.Type
+
+	// By the operator: the rules for what stands behind a left side.
+	comparisons map[kind]operatorRule
+	sums        map[kind]operatorRule
+	products    map[kind]operatorRule
 }
 
 func newReader(text string) *reader {
@@ -64,6 +69,9 @@ func newReader(text string) *reader {
 	r.atoms = r.atomRules()
 	r.plains = r.plainRules()
 	r.smalls = r.smallRules()
+	r.comparisons = r.comparisonRules()
+	r.sums = r.sumRules()
+	r.products = r.productRules()
 	r.token = tokenBehind(text, 0)
 	return r
 }

@@ -17,35 +17,34 @@ const (
 	atom
 )
 
-// operator: its sign, how tightly it holds, and how tightly each of its sides must.
-type operator struct {
-	sign             string
-	own, left, right level
-}
+// operatorRule writes an operator and its sides, at a place where an expression must hold together that tightly.
+type operatorRule func(b tree.Binary, least level)
 
 // Operators are read from the left, so a right side must hold more tightly than its operator; `<` stands but once.
-var operators = [...]operator{
-	{sign: "<", own: loose, left: sum, right: sum},
-	{sign: "+", own: sum, left: sum, right: product},
-	{sign: "-", own: sum, left: sum, right: product},
-	{sign: "*", own: product, left: product, right: call},
+func (w *pen) operatorRules() map[string]operatorRule {
+	return map[string]operatorRule{
+		"<": w.operator(loose, sum, sum),
+		"+": w.operator(sum, sum, product),
+		"-": w.operator(sum, sum, product),
+		"*": w.operator(product, product, call),
+	}
 }
 
-func operatorOf(sign string) operator {
-	for _, o := range operators {
-		if o.sign == sign {
-			return o
-		}
+// operator is the rule of an operator, by how tightly it holds and how tightly each of its sides must.
+func (w *pen) operator(own, left, right level) operatorRule {
+	return func(b tree.Binary, least level) {
+		w.group(own < least, func() {
+			w.exprAt(b.Left, left)
+			w.put(b.Op)
+			w.exprAt(b.Right, right)
+		})
 	}
-	return operator{}
 }
 
 func levelOf(e tree.Expr) level {
-	switch e := e.(type) {
+	switch e.(type) {
 	case tree.Fun, tree.Let, tree.If, tree.Match:
 		return loose
-	case tree.Binary:
-		return operatorOf(e.Op).own
 	case tree.Call:
 		return call
 	}
@@ -53,6 +52,10 @@ func levelOf(e tree.Expr) level {
 }
 
 func (w *pen) exprAt(e tree.Expr, least level) {
+	if b, ok := e.(tree.Binary); ok {
+		w.operators[b.Op](b, least)
+		return
+	}
 	w.group(levelOf(e) < least, func() { w.bareExpr(e) })
 }
 
@@ -74,11 +77,6 @@ func (w *pen) bareExpr(e tree.Expr) {
 		w.exprAt(e.No, loose)
 	case tree.Match:
 		w.match(e)
-	case tree.Binary:
-		o := operatorOf(e.Op)
-		w.exprAt(e.Left, o.left)
-		w.put(e.Op)
-		w.exprAt(e.Right, o.right)
 	case tree.Call:
 		w.exprAt(e.Fun, call)
 		w.exprAt(e.Arg, atom)

@@ -1,4 +1,4 @@
-// Package writer: programs written in one way, with no more parentheses than they need.
+// Package writer: programs and types written in one way, with no more parentheses than they need.
 package writer
 
 import (
@@ -9,7 +9,7 @@ import (
 
 // Program writes a program: a line for each declaration.
 func Program(p tree.Program) string {
-	w := &pen{}
+	w := newPen()
 	for _, d := range p.Decls {
 		w.decl(d)
 	}
@@ -20,6 +20,14 @@ func Program(p tree.Program) string {
 type pen struct {
 	out  strings.Builder
 	last string // the token put last, empty at the head of a line
+
+	operators map[string]operatorRule // by the operator's sign
+}
+
+func newPen() *pen {
+	w := &pen{}
+	w.operators = w.operatorRules()
+	return w
 }
 
 func (w *pen) put(tokens ...string) {
