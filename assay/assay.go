@@ -4,6 +4,7 @@ package assay
 import (
 	"assay/api"
 	"assay/reader"
+	"assay/scope"
 	"assay/types"
 	"assay/writer"
 )
@@ -41,7 +42,13 @@ func Unify(a string, b string) (string, bool, api.Fault) {
 }
 
 // Scope tells what is wrong with a program's names (P7).
-func Scope(source string) api.Fault { return api.Fault{} }
+func Scope(source string) api.Fault {
+	program, fault := reader.Program(source)
+	if fault.Kind != api.OK {
+		return fault
+	}
+	return scope.Fault(program)
+}
 
 // Infer finds the types of a program's definitions (P8 to P11).
 func Infer(source string, engine int) api.Report { return api.Report{} }

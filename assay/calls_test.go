@@ -69,6 +69,7 @@ func TestNothingButTheFault(t *testing.T) {
 		checkAlone(t, "Unify", text, f, one == "" && !ok)
 		one, ok, f = assay.Unify("'a", text)
 		checkAlone(t, "Unify behind 'a", text, f, one == "" && !ok)
+		checkAlone(t, "Scope", text, assay.Scope(text), true)
 	}
 }
 
@@ -94,14 +95,17 @@ func TestFirstNamedFault(t *testing.T) {
 		if _, _, f := assay.Unify(text, "#"); f != want {
 			t.Errorf("P1: Unify(%.20q.., #): %v", text, f)
 		}
+		if f := assay.Scope(text); f != want {
+			t.Errorf("P1: Scope(%.20q..): %v", text, f)
+		}
 	}
 }
 
 // answer is what all calls answer to one text.
 type answer struct {
-	shown, canon, one               string
-	ok                              bool
-	showFault, canonFault, oneFault api.Fault
+	shown, canon, one                      string
+	ok                                     bool
+	showFault, canonFault, oneFault, scope api.Fault
 }
 
 func ask(text string) answer {
@@ -109,11 +113,13 @@ func ask(text string) answer {
 	a.shown, a.showFault = assay.Show(text)
 	a.canon, a.canonFault = assay.Canon(text)
 	a.one, a.ok, a.oneFault = assay.Unify(text, "('x, 'a) -> 'b")
+	a.scope = assay.Scope(text)
 	return a
 }
 
 func TestNothingIsKept(t *testing.T) {
 	texts := []string{"let x = 1;", "let y = (2)", "#", "type T 'a = A ('a);", "", strings.Repeat(" ", 500), "let z = f (g x) 003;",
+		"let y = x;", "type T = B T | A;", "let z = A;", "let z = match 1 with A -> 1 end;", "let z = (1 : T);", "let z = match 1 with (a, (b, (b, a))) -> c end;",
 		"'a", "('b,'a)->'c", "('a,'b)->'a", "'a->'a", "Int", "T" + strings.Repeat(" A", 48)}
 	var first []answer
 	for _, text := range texts {
