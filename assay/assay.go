@@ -4,7 +4,6 @@ package assay
 import (
 	"assay/api"
 	"assay/reader"
-	"assay/scope"
 	"assay/types"
 	"assay/writer"
 )
@@ -43,15 +42,22 @@ func Unify(a string, b string) (string, bool, api.Fault) {
 
 // Scope tells what is wrong with a program's names (P7).
 func Scope(source string) api.Fault {
-	program, fault := reader.Program(source)
-	if fault.Kind != api.OK {
-		return fault
-	}
-	return scope.Fault(program)
+	_, fault := readNamed(source)
+	return fault
 }
 
 // Infer finds the types of a program's definitions (P8 to P11).
-func Infer(source string, engine int) api.Report { return api.Report{} }
+func Infer(source string, engine int) api.Report {
+	program, fault := readNamed(source)
+	if fault.Kind != api.OK {
+		return api.Report{Fault: fault}
+	}
+	begin, known := engines()[engine]
+	if !known {
+		return api.Report{Fault: api.Fault{Kind: api.ErrScope}}
+	}
+	return infer(program, begin())
+}
 
 // Check tells of its matches too (P12 to P14).
 func Check(source string, engine int) api.Report { return api.Report{} }

@@ -4,6 +4,7 @@ import (
 	"math"
 	"math/rand"
 	"reflect"
+	"slices"
 	"strings"
 	"sync"
 	"testing"
@@ -70,6 +71,11 @@ func TestNothingButTheFault(t *testing.T) {
 		one, ok, f = assay.Unify("'a", text)
 		checkAlone(t, "Unify behind 'a", text, f, one == "" && !ok)
 		checkAlone(t, "Scope", text, assay.Scope(text), true)
+		for _, engine := range []int{api.EngineW, api.EngineJ, 0} {
+			r := assay.Infer(text, engine)
+			read := r.Fault.Kind == api.ErrType || r.Fault.Kind == api.ErrSize
+			checkAlone(t, "Infer", text, r.Fault, (r.Binds == nil || read) && r.Warns == nil && (r.Left == "" || r.Fault.Kind == api.ErrType) && (r.Left == "") == (r.Right == ""))
+		}
 	}
 }
 
@@ -98,6 +104,9 @@ func TestFirstNamedFault(t *testing.T) {
 		if f := assay.Scope(text); f != want {
 			t.Errorf("P1: Scope(%.20q..): %v", text, f)
 		}
+		if r := assay.Infer(text, 0); r.Fault != want {
+			t.Errorf("P1: Infer(%.20q.., 0): %v", text, r)
+		}
 	}
 }
 
@@ -106,6 +115,7 @@ type answer struct {
 	shown, canon, one                      string
 	ok                                     bool
 	showFault, canonFault, oneFault, scope api.Fault
+	w, j                                   api.Report
 }
 
 func ask(text string) answer {
@@ -114,12 +124,15 @@ func ask(text string) answer {
 	a.canon, a.canonFault = assay.Canon(text)
 	a.one, a.ok, a.oneFault = assay.Unify(text, "('x, 'a) -> 'b")
 	a.scope = assay.Scope(text)
+	a.w = assay.Infer(text, api.EngineW)
+	a.j = assay.Infer(text, api.EngineJ)
 	return a
 }
 
 func TestNothingIsKept(t *testing.T) {
 	texts := []string{"let x = 1;", "let y = (2)", "#", "type T 'a = A ('a);", "", strings.Repeat(" ", 500), "let z = f (g x) 003;",
 		"let y = x;", "type T = B T | A;", "let z = A;", "let z = match 1 with A -> 1 end;", "let z = (1 : T);", "let z = match 1 with (a, (b, (b, a))) -> c end;",
+		"let f=fun x->x;let x=(f 1,f);let y=f f;", "let f=fun x->1;let g=f f;let h=g+1;", "type T 'a=A 'a|B;let f=fun x->match x with A y->y|B->1 end;", "let f=fun x->x x;", "let a=A;",
 		"'a", "('b,'a)->'c", "('a,'b)->'a", "'a->'a", "Int", "T" + strings.Repeat(" A", 48)}
 	var first []answer
 	for _, text := range texts {
@@ -127,7 +140,7 @@ func TestNothingIsKept(t *testing.T) {
 	}
 	for i := range texts {
 		for j := range texts {
-			if a, b := ask(texts[i]), ask(texts[j]); a != first[i] || b != first[j] {
+			if a, b := ask(texts[i]), ask(texts[j]); !reflect.DeepEqual(a, first[i]) || !reflect.DeepEqual(b, first[j]) {
 				t.Errorf("P2: asked of %.20q, then of %.20q: %v, %v, want %v, %v", texts[i], texts[j], a, b, first[i], first[j])
 			}
 		}
@@ -145,6 +158,23 @@ func TestNothingIsKept(t *testing.T) {
 	for _, got := range side {
 		if !reflect.DeepEqual(got, first) {
 			t.Errorf("P2: side by side: %v, want %v", got, first)
+		}
+	}
+}
+
+// A list that came out is the caller's, spare room and all.
+func TestListsAreTheCallers(t *testing.T) {
+	const source = "let a=1;let b=true;let c=();let d=a;let e=b 1;"
+	for _, engine := range bothEngines {
+		first, second := assay.Infer(source, engine), assay.Infer(source, engine)
+		want := second
+		want.Binds = slices.Clone(second.Binds)
+		room := first.Binds[:cap(first.Binds)]
+		for i := range room {
+			room[i] = api.Bind{Name: "over", Type: "over"}
+		}
+		if !sameReport(second, want) || !sameReport(assay.Infer(source, engine), want) {
+			t.Errorf("P2: engine %d: %+v, want %+v", engine, second, want)
 		}
 	}
 }

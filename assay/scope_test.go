@@ -423,6 +423,24 @@ func (w *namer) mended(source string, f api.Fault) string {
 	return head + token + " " + w.pick("_ Int x 'a") + " " + tail
 }
 
+// clean is a program with nothing wrong with its names, or nothing if none came of it.
+func (w *namer) clean() string {
+	source := w.program()
+	for range 200 {
+		f := assay.Scope(source)
+		if f.Kind == api.OK && readable(source) {
+			return source
+		}
+		if f.Kind != api.ErrDecl && f.Kind != api.ErrScope {
+			return ""
+		}
+		if next := w.mended(source, f); readable(next) {
+			source = next
+		}
+	}
+	return ""
+}
+
 // readable tells whether a text can be read, and is a program of at least one declaration.
 func readable(source string) bool {
 	shown, f := assay.Show(source)

@@ -23,8 +23,8 @@ func readType(text string, variable func(name string) types.Type) (types.Type, a
 
 // unify joins nodes, since what comes of two small types may be too large to be written out ahead of its size.
 func unify(a, b types.Type) (string, bool, api.Fault) {
-	variable := nodes.Variables()
-	left, right := nodes.Of(a, variable), nodes.Of(b, variable)
+	variable := nodes.Variables(0)
+	left, right := nodes.Of(a, 0, variable), nodes.Of(b, 0, variable)
 	if !nodes.Join(left, right) {
 		return "", false, api.Fault{}
 	}

@@ -10,14 +10,14 @@ import (
 
 // planter reads types to nodes; one name is one variable in all of them.
 func planter(t *testing.T) func(text string) *Node {
-	name, variable := types.Names(types.Fresh()), Variables()
+	name, variable := types.Names(types.Fresh()), Variables(0)
 	return func(text string) *Node {
 		t.Helper()
 		read, fault := reader.Type(text)
 		if fault.Kind != 0 {
 			t.Fatalf("%q: %v", text, fault)
 		}
-		return Of(types.Of(read, name), variable)
+		return Of(types.Of(read, name), 0, variable)
 	}
 }
 

@@ -26,6 +26,22 @@ const (
 func (Variable) isType() {}
 func (Made) isType()     {}
 
+// Int, Bool and Unit are the types that no source declares.
+
+func Int() Type  { return Made{By: "Int"} }
+func Bool() Type { return Made{By: "Bool"} }
+func Unit() Type { return Made{By: "Unit"} }
+
+// FunctionOf is the type of functions from one type to another.
+func FunctionOf(from, to Type) Type {
+	return Made{By: Function, Parts: []Type{from, to}}
+}
+
+// PairOf is the type of pairs.
+func PairOf(left, right Type) Type {
+	return Made{By: Pair, Parts: []Type{left, right}}
+}
+
 // Size is the size of a type.
 func Size(t Type) int {
 	size := 1

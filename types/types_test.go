@@ -2,6 +2,7 @@ package types
 
 import (
 	"reflect"
+	"slices"
 	"testing"
 
 	"assay/reader"
@@ -58,5 +59,44 @@ func TestFresh(t *testing.T) {
 			t.Fatalf("%v was handed out twice, or hangs on another closure", v)
 		}
 		met[v] = true
+	}
+}
+
+func TestVariables(t *testing.T) {
+	for text, want := range map[string][]Variable{
+		"Int": nil, "'a": {1}, "('a,'b)->'a": {1, 2}, "T(L 'b)('a->'b)'c": {1, 2, 3},
+	} {
+		if got := Variables(read(t, text, Names(Fresh()))); !slices.Equal(got, want) {
+			t.Errorf("%q: %v, want %v", text, got, want)
+		}
+	}
+	name := Names(Fresh())
+	read(t, "'a->'b", name)
+	if got := Variables(read(t, "'b->L('a,'b)", name)); !slices.Equal(got, []Variable{2, 1}) {
+		t.Errorf("%v", got)
+	}
+}
+
+func TestPut(t *testing.T) {
+	name := Names(Fresh())
+	whole := read(t, "T 'a (L 'b)->('a,Int)", name)
+	got := Put(whole, func(v Variable) Type {
+		if v == name("a") {
+			return read(t, "'b->Bool", name)
+		}
+		return v
+	})
+	if want := read(t, "T ('b->Bool) (L 'b)->('b->Bool,Int)", name); !reflect.DeepEqual(got, want) {
+		t.Errorf("%v, want %v", got, want)
+	}
+	if !reflect.DeepEqual(whole, read(t, "T 'a (L 'b)->('a,Int)", name)) {
+		t.Errorf("it was changed: %v", whole)
+	}
+}
+
+func TestClosed(t *testing.T) {
+	got := Closed(read(t, "'a->L('b,Int)", Names(Fresh())))
+	if Size(got) != 6 || len(Variables(got)) != 0 || !reflect.DeepEqual(got.(Made).Parts[0].(Made).By, "Unit") {
+		t.Errorf("%v", got)
 	}
 }
