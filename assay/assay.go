@@ -3,6 +3,7 @@ package assay
 
 import (
 	"assay/api"
+	"assay/matches"
 	"assay/reader"
 	"assay/types"
 	"assay/writer"
@@ -48,16 +49,15 @@ func Scope(source string) api.Fault {
 
 // Infer finds the types of a program's definitions (P8 to P11).
 func Infer(source string, engine int) api.Report {
-	program, fault := readNamed(source)
-	if fault.Kind != api.OK {
-		return api.Report{Fault: fault}
-	}
-	begin, known := engines()[engine]
-	if !known {
-		return api.Report{Fault: api.Fault{Kind: api.ErrScope}}
-	}
-	return infer(program, begin())
+	_, report := inferSource(source, engine)
+	return report
 }
 
 // Check tells of its matches too (P12 to P14).
-func Check(source string, engine int) api.Report { return api.Report{} }
+func Check(source string, engine int) api.Report {
+	program, report := inferSource(source, engine)
+	if report.Fault.Kind == api.OK {
+		report.Warns = matches.Warns(program)
+	}
+	return report
+}

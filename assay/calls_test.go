@@ -75,6 +75,8 @@ func TestNothingButTheFault(t *testing.T) {
 			r := assay.Infer(text, engine)
 			read := r.Fault.Kind == api.ErrType || r.Fault.Kind == api.ErrSize
 			checkAlone(t, "Infer", text, r.Fault, (r.Binds == nil || read) && r.Warns == nil && (r.Left == "" || r.Fault.Kind == api.ErrType) && (r.Left == "") == (r.Right == ""))
+			c := assay.Check(text, engine)
+			checkAlone(t, "Check", text, c.Fault, c.Warns == nil && sameReport(c, r))
 		}
 	}
 }
@@ -107,6 +109,9 @@ func TestFirstNamedFault(t *testing.T) {
 		if r := assay.Infer(text, 0); r.Fault != want {
 			t.Errorf("P1: Infer(%.20q.., 0): %v", text, r)
 		}
+		if r := assay.Check(text, 0); r.Fault != want {
+			t.Errorf("P1: Check(%.20q.., 0): %v", text, r)
+		}
 	}
 }
 
@@ -115,7 +120,7 @@ type answer struct {
 	shown, canon, one                      string
 	ok                                     bool
 	showFault, canonFault, oneFault, scope api.Fault
-	w, j                                   api.Report
+	w, j, checkW, checkJ                   api.Report
 }
 
 func ask(text string) answer {
@@ -126,6 +131,8 @@ func ask(text string) answer {
 	a.scope = assay.Scope(text)
 	a.w = assay.Infer(text, api.EngineW)
 	a.j = assay.Infer(text, api.EngineJ)
+	a.checkW = assay.Check(text, api.EngineW)
+	a.checkJ = assay.Check(text, api.EngineJ)
 	return a
 }
 
@@ -133,6 +140,7 @@ func TestNothingIsKept(t *testing.T) {
 	texts := []string{"let x = 1;", "let y = (2)", "#", "type T 'a = A ('a);", "", strings.Repeat(" ", 500), "let z = f (g x) 003;",
 		"let y = x;", "type T = B T | A;", "let z = A;", "let z = match 1 with A -> 1 end;", "let z = (1 : T);", "let z = match 1 with (a, (b, (b, a))) -> c end;",
 		"let f=fun x->x;let x=(f 1,f);let y=f f;", "let f=fun x->1;let g=f f;let h=g+1;", "type T 'a=A 'a|B;let f=fun x->match x with A y->y|B->1 end;", "let f=fun x->x x;", "let a=A;",
+		"type T=A|B;let f=fun x->match x with A->1 end;", "type T=B|A|C;let f=fun x->match x with A->1|A->match x with B->2 end end;", "let f=fun x->match x with 0->1|1->1 end;",
 		"'a", "('b,'a)->'c", "('a,'b)->'a", "'a->'a", "Int", "T" + strings.Repeat(" A", 48)}
 	var first []answer
 	for _, text := range texts {
@@ -162,19 +170,37 @@ func TestNothingIsKept(t *testing.T) {
 	}
 }
 
-// A list that came out is the caller's, spare room and all.
+// A list that came out is the caller's, spare room and all: what is written into it is seen in no other list, and not by the next call.
 func TestListsAreTheCallers(t *testing.T) {
-	const source = "let a=1;let b=true;let c=();let d=a;let e=b 1;"
-	for _, engine := range bothEngines {
-		first, second := assay.Infer(source, engine), assay.Infer(source, engine)
-		want := second
-		want.Binds = slices.Clone(second.Binds)
-		room := first.Binds[:cap(first.Binds)]
-		for i := range room {
-			room[i] = api.Bind{Name: "over", Type: "over"}
+	for _, source := range []string{
+		"let a=1;let b=true;let c=();let d=a;let e=b 1;",
+		"let a=match 1 with 0->1|0->2 end;let b=match a with 1->1|1->2|1->3 end;let c=();",
+	} {
+		for _, engine := range bothEngines {
+			for _, call := range []func(string, int) api.Report{assay.Infer, assay.Check} {
+				first, second := call(source, engine), call(source, engine)
+				want := second
+				want.Binds, want.Warns = slices.Clone(second.Binds), slices.Clone(second.Warns)
+				writeOver(first.Binds, api.Bind{Name: "over", Type: "over"})
+				if !slices.Equal(first.Warns, want.Warns) {
+					t.Errorf("P2: engine %d: writing into Binds changed Warns: %+v", engine, first)
+				}
+				writeOver(first.Warns, api.Warn{Kind: 9, From: -1, To: -1, Witness: "over"})
+				if len(first.Binds) > 0 && first.Binds[0].Name != "over" {
+					t.Errorf("P2: engine %d: writing into Warns changed Binds: %+v", engine, first)
+				}
+				if !sameReport(second, want) || !sameReport(call(source, engine), want) {
+					t.Errorf("P2: engine %d: %+v, want %+v", engine, second, want)
+				}
+			}
 		}
-		if !sameReport(second, want) || !sameReport(assay.Infer(source, engine), want) {
-			t.Errorf("P2: engine %d: %+v, want %+v", engine, second, want)
-		}
+	}
+}
+
+// writeOver fills a list and its spare room.
+func writeOver[T any](list []T, with T) {
+	room := list[:cap(list)]
+	for i := range room {
+		room[i] = with
 	}
 }

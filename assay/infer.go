@@ -35,6 +35,19 @@ func readNamed(source string) (tree.Program, api.Fault) {
 	return program, scope.Fault(program)
 }
 
+// inferSource reads a program and finds its types, by the engine of that number.
+func inferSource(source string, number int) (tree.Program, api.Report) {
+	program, fault := readNamed(source)
+	if fault.Kind != api.OK {
+		return tree.Program{}, api.Report{Fault: fault}
+	}
+	begin, known := engines()[number]
+	if !known {
+		return tree.Program{}, api.Report{Fault: api.Fault{Kind: api.ErrScope}}
+	}
+	return program, infer(program, begin())
+}
+
 // infer has an engine find the types of a program up to the first that there is none of.
 func infer(program tree.Program, finder engine) api.Report {
 	var report api.Report

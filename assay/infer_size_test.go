@@ -196,3 +196,24 @@ func TestSizesOfMatches(t *testing.T) {
 		{"type T=C" + strings.Repeat(" A", 40) + ";let f=fun x->match x with C" + strings.Repeat(" _", 40) + "->A end;", "T->A"},
 	})
 }
+
+// A declared type lets its instances by up to the largest that there are, and no others.
+func TestLargestInstances(t *testing.T) {
+	checkNotTooLarge(t, "P15", []foundTypes{
+		{"let y=E;let x=(y:B(%47));", "B (%47)"},
+		{"let f=fun x->x;let x=(f:(A,(A,(A,(A,A))))->(A,(A,(A,(A,A)))));", "(A,(A,(A,(A,A))))->(A,(A,(A,(A,A))))"},
+		{"let rec f=fun x->f x;let x=(f:A->%45);", "A->%45"},
+		{"let rec f=fun x->f x;let x=(f:%45->A);", "%45->A"},
+	})
+	for _, text := range []string{
+		"let y=E;let x=([y]:%47);",
+		"let f=fun x->x;let x=([f]:A->%45);",
+		"let f=fun x->x;let x=([f]:%45->A);",
+		"let rec f=fun x->f x;let x=([f]:B(%47));",
+	} {
+		source, want := marked(api.ErrType, rungs(sizeHead+text))
+		if r := inferred(t, source); r.Fault != want {
+			t.Errorf("P15: Infer(%q): %+v, want %v", source, r, want)
+		}
+	}
+}

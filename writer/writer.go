@@ -16,6 +16,13 @@ func Program(p tree.Program) string {
 	return w.out.String()
 }
 
+// Pattern writes a pattern as Program does.
+func Pattern(p tree.Pattern) string {
+	w := newPen()
+	w.patternAt(p, wholePattern)
+	return w.out.String()
+}
+
 // pen puts tokens one behind the other, with the spaces that belong between them.
 type pen struct {
 	out  strings.Builder
